@@ -1,0 +1,1 @@
+"""Pebbletoll: pebbles on a web whose roads take their toll."""

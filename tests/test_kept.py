@@ -1,0 +1,113 @@
+"""0.2 and 0.3: what is handed in stays as it was, what is told is the asker's own."""
+
+import unittest
+
+from samples import BRANCHED, NAMED, made
+
+from pebbletoll.errors import BadWeb
+from pebbletoll.webs import Web, neighbours, toll
+from pebbletoll.ways import ahead, beyond, down, price, way
+
+
+def lists_told(web):
+    """Every list that can be told of a web, in a fixed order."""
+    told = []
+    for a in range(web.many):
+        told += [neighbours(web, a), ahead(web, a), down(web, a)]
+        told += [way(web, a, b) for b in range(web.many)]
+        told += [beyond(web, a, b) for b in neighbours(web, a)]
+    return told
+
+
+def numbers_told(web):
+    prices = [price(web, a, b) for a in range(web.many) for b in range(web.many)]
+    return prices + [toll(web, a, b) for a in range(web.many) for b in neighbours(web, a)]
+
+
+class HandedIn(unittest.TestCase):
+    def test_the_list_of_roads_stays_as_it_was(self):
+        for many, roads in NAMED:
+            handed = list(roads)
+            web = Web(many, handed)
+            lists_told(web)
+            numbers_told(web)
+            self.assertEqual(handed, list(roads))
+
+    def test_the_list_of_a_refused_web_stays_as_it_was(self):
+        handed = [(0, 1, 2, 3), (1, 0, 3, 2)]
+        with self.assertRaises(BadWeb):
+            Web(3, handed)
+        self.assertEqual(handed, [(0, 1, 2, 3), (1, 0, 3, 2)])
+
+    def test_the_list_may_be_changed_behind(self):
+        for many, roads in NAMED:
+            handed = list(roads)
+            web = Web(many, handed)
+            before = (lists_told(web), numbers_told(web))
+            handed.append((0, 0, 0, 0))
+            handed[0] = (7, 7, 7, 7)
+            self.assertEqual(web.roads, tuple(roads))
+            self.assertEqual((lists_told(web), numbers_told(web)), before)
+            handed.clear()
+            self.assertEqual(web.roads, tuple(roads))
+            self.assertEqual((lists_told(web), numbers_told(web)), before)
+
+    def test_a_tuple_does_as_well_as_a_list(self):
+        for many, roads in NAMED:
+            web = Web(many, tuple(roads))
+            self.assertEqual(web.roads, tuple(roads))
+            self.assertEqual(lists_told(web), lists_told(Web(many, list(roads))))
+        with self.assertRaises(BadWeb):
+            Web(2, ((0, 0, 2, 2),))
+
+    def test_asking_changes_no_field(self):
+        for sample in NAMED:
+            web = made(sample)
+            before = dict(vars(web))
+            lists_told(web)
+            numbers_told(web)
+            self.assertEqual(vars(web), before)
+
+
+class Told(unittest.TestCase):
+    def test_the_same_question_has_the_same_answer(self):
+        for sample in NAMED:
+            web = made(sample)
+            self.assertEqual(lists_told(web), lists_told(web))
+            self.assertEqual(numbers_told(web), numbers_told(web))
+
+    def test_no_two_lists_are_one(self):
+        for sample in NAMED:
+            web = made(sample)
+            told = lists_told(web) + lists_told(web)
+            self.assertEqual(len(set(id(some) for some in told)), len(told))
+
+    def test_a_told_list_may_be_changed(self):
+        for sample in NAMED:
+            web = made(sample)
+            before = [list(some) for some in lists_told(web)]
+            for some in lists_told(web):
+                some.append(99)
+                some[0] = -5
+                some.reverse()
+            self.assertEqual(lists_told(web), before)
+            self.assertEqual(web.roads, tuple(sample[1]))
+
+    def test_an_earlier_answer_is_not_changed_by_a_later_question(self):
+        web = made(BRANCHED)
+        told = lists_told(web)
+        before = [list(some) for some in told]
+        other = Web(2, [(0, 1, 5, 5)])
+        lists_told(other)
+        lists_told(web)
+        self.assertEqual(told, before)
+
+    def test_webs_do_not_share(self):
+        one = made(BRANCHED)
+        before = lists_told(one)
+        Web(7, [(k, k + 1, 2, 2) for k in range(6)])
+        self.assertEqual(lists_told(one), before)
+
+
+if __name__ == "__main__":
+    unittest.main()
