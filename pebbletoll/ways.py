@@ -50,6 +50,12 @@ def kids(web, place, front):
     return [near for near in neighbours(web, place) if near != front]
 
 
+# Each place but r with the one ahead of it, those beneath a place before it.
+def inward(web, r):
+    nearer = ahead(web, r)
+    return [(place, nearer[place]) for place in reversed(down(web, r)) if place != r]
+
+
 def beyond(web, a, b):
     # Asked for its refusals alone: NoPlace, then NoRoad.
     toll(web, a, b)

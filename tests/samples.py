@@ -1,6 +1,7 @@
 """Webs for the tests, and what the document says of them, told the slow way."""
 
 from itertools import product
+from random import Random
 
 from pebbletoll.webs import Web
 
@@ -110,3 +111,94 @@ def slow_down(sample, r):
         return places
 
     return below(r)
+
+
+CHEAP_TOLLS = (2, 3, 3, 2, 2, 2)
+
+
+def cheap_webs(most_places):
+    """Every web of up to so many places, of low tolls, on which all steps can be tried."""
+    yield ALONE
+    for many in range(2, most_places + 1):
+        for turn, code in enumerate(product(range(many), repeat=many - 2)):
+            roads = []
+            for k, (one, other) in enumerate(ends_of_code(many, code)):
+                there = CHEAP_TOLLS[(turn + 2 * k) % 6]
+                back = CHEAP_TOLLS[(turn + 2 * k + 1) % 6]
+                roads.append((one, other, there, back))
+            yield many, roads
+
+
+def small_lists(many, greatest):
+    return list(product(range(greatest + 1), repeat=many))
+
+
+def one_step_on(sample, laying):
+    """Each laying behind one step with times 1."""
+    for (a, b), number in tolls(sample).items():
+        if laying[a] >= number:
+            counts = list(laying)
+            counts[a] -= number
+            counts[b] += 1
+            yield tuple(counts)
+
+
+def slow_reached(sample, laying):
+    """Every laying to which any steps lead: a step with more times is so many with times 1."""
+    reached = {tuple(laying)}
+    waiting = [tuple(laying)]
+    while waiting:
+        for found in one_step_on(sample, waiting.pop()):
+            if found not in reached:
+                reached.add(found)
+                waiting.append(found)
+    return reached
+
+
+def slow_gathered(sample, laying, r):
+    fronts = slow_ahead(sample, r)
+    known = tolls(sample)
+
+    def below(v):
+        kids = [kid for kid in range(sample[0]) if fronts[kid] == v]
+        return laying[v] + sum(below(kid) // known[(kid, v)] for kid in kids)
+
+    return [below(v) for v in range(sample[0])]
+
+
+def slow_standings(sample, laying, wish, r):
+    fronts = slow_ahead(sample, r)
+    known = tolls(sample)
+
+    def below(v):
+        found = laying[v] - wish[v]
+        for kid in [place for place in range(sample[0]) if fronts[place] == v]:
+            own = below(kid)
+            found += own // known[(kid, v)] if own >= 0 else own * known[(v, kid)]
+        return found
+
+    return [below(v) for v in range(sample[0])]
+
+
+def mixed_lists(many, greatest, how_many):
+    """Lists of numbers from 0 to the greatest, a third of them 0: always the same ones."""
+    source = Random(7)
+    for turn in range(how_many):
+        yield [source.randint(0, greatest) * (source.randrange(3) > 0) for place in range(many)]
+
+
+def wrong_lists(many):
+    """Lists that are neither a laying nor a wish: too short, too long, one below 0."""
+    right = [3] * many
+    yield right[1:]
+    yield right + [0]
+    yield right + right
+    yield []
+    for place in range(many):
+        for number in (-1, -HUGE, -10 ** 399):
+            yield right[:place] + [number] + right[place + 1:]
+    yield [-1] * (many + 1)
+
+
+def wrong_places(many):
+    return (-1, -many, many, many + 1, HUGE, -HUGE, 10 ** 5000)

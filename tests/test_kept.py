@@ -2,11 +2,15 @@
 
 import unittest
 
-from samples import BRANCHED, NAMED, made
+from samples import BRANCHED, NAMED, made, mixed_lists
 
+from pebbletoll.bringing import bring, gathered, most, shows_most
 from pebbletoll.errors import BadWeb
+from pebbletoll.layings import covers, laying_of, pile, put, total
+from pebbletoll.steps import layings, spent, walked
 from pebbletoll.webs import Web, neighbours, toll
 from pebbletoll.ways import ahead, beyond, down, price, way
+from pebbletoll.wishes import is_met, judged, meeting, standing, standings
 
 
 def lists_told(web):
@@ -107,6 +111,74 @@ class Told(unittest.TestCase):
         before = lists_told(one)
         Web(7, [(k, k + 1, 2, 2) for k in range(6)])
         self.assertEqual(lists_told(one), before)
+
+
+def layings_and_wishes():
+    for sample in NAMED:
+        for greatest in (5, 10 ** 9, 10 ** 400 - 1):
+            numbers = list(mixed_lists(sample[0], greatest, 3))
+            for laying, wish in ((numbers[0], numbers[1]), (numbers[1], numbers[2]), (numbers[2], [0] * sample[0])):
+                yield made(sample), list(laying), list(wish)
+
+
+def lists_told_of_layings(web, laying, wish):
+    told = []
+    for r in (0, web.many - 1):
+        told += [gathered(web, laying, r), bring(web, laying, r), standings(web, laying, wish, r)]
+        told.append(layings(web, laying, told[1]))
+    answer = meeting(web, laying, wish)
+    return told + ([answer[1]] if answer[0] == "steps" else [])
+
+
+def others_told_of_layings(web, laying, wish, steps, table):
+    answer = meeting(web, laying, wish)
+    return [
+        laying_of(web, laying), total(laying), pile(web, 0, 5), put(web, laying, 0, 5), covers(laying, wish),
+        walked(web, laying, steps), spent(web, steps), most(web, laying, 0), shows_most(web, laying, 0, table),
+        standing(web, laying, wish, 0), is_met(web, laying, wish), answer[0], judged(web, laying, wish, answer),
+        judged(web, laying, wish, ("steps", steps)),
+    ]
+
+
+class Layings(unittest.TestCase):
+    def test_what_is_handed_in_stays_as_it_was(self):
+        for web, laying, wish in layings_and_wishes():
+            steps = bring(web, laying, 0)
+            table = gathered(web, laying, 0)
+            before = [list(laying), list(wish), list(steps), list(table)]
+            roads = web.roads
+            lists_told_of_layings(web, laying, wish)
+            others_told_of_layings(web, laying, wish, steps, table)
+            self.assertEqual([laying, wish, steps, table], before)
+            self.assertEqual((web.roads, vars(web)), (roads, {"many": web.many, "roads": roads}))
+
+    def test_the_same_question_has_the_same_answer(self):
+        for web, laying, wish in layings_and_wishes():
+            steps = bring(web, laying, 0)
+            table = gathered(web, laying, 0)
+            first = others_told_of_layings(web, laying, wish, steps, table)
+            lists = lists_told_of_layings(web, laying, wish)
+            self.assertEqual(lists_told_of_layings(web, laying, wish), lists)
+            self.assertEqual(others_told_of_layings(web, laying, wish, steps, table), first)
+            tuples = (tuple(laying), tuple(wish), tuple(steps), tuple(table))
+            self.assertEqual(others_told_of_layings(web, *tuples), first)
+
+    def test_no_two_lists_are_one_nor_one_that_was_handed_in(self):
+        for web, laying, wish in layings_and_wishes():
+            told = lists_told_of_layings(web, laying, wish) + lists_told_of_layings(web, laying, wish)
+            told += [laying, wish]
+            self.assertEqual(len(set(id(some) for some in told)), len(told))
+
+    def test_told_lists_and_handed_in_ones_may_be_changed(self):
+        for web, laying, wish in layings_and_wishes():
+            told = lists_told_of_layings(web, laying, wish)
+            before = [list(some) for some in told]
+            handed = (list(laying), list(wish))
+            for some in lists_told_of_layings(web, laying, wish) + [laying, wish]:
+                some.append(99)
+                some[0] = -5
+            self.assertEqual(told, before)
+            self.assertEqual(lists_told_of_layings(web, *handed), before)
 
 
 if __name__ == "__main__":

@@ -119,6 +119,17 @@ class Code(unittest.TestCase):
                     for alias in node.names:
                         self.assertIn(alias.name, bound_at_top(source), name)
 
+    def test_no_two_files_draw_from_one_another(self):
+        drawn = {}
+        for name in files():
+            modules = [node.module for node in nodes_of(name) if isinstance(node, ast.ImportFrom)]
+            drawn[name] = [module.partition(".")[2] + ".py" for module in modules]
+        while drawn:
+            free = [name for name in drawn if not any(source in drawn for source in drawn[name])]
+            self.assertNotEqual(free, [], drawn)
+            for name in free:
+                del drawn[name]
+
     def test_names_of_pythons_own(self):
         for name in files():
             for node in nodes_of(name):
