@@ -1,5 +1,6 @@
 """Webs for the tests, and what the document says of them, told the slow way."""
 
+from functools import cache
 from itertools import product
 from random import Random
 
@@ -72,16 +73,26 @@ def tolls(sample):
     return found
 
 
-def slow_way(sample, a, b, passed=()):
-    """The way from a to b by trying each road; None where there is none."""
-    if a == b:
-        return [a]
-    for start, end in tolls(sample):
-        if start == a and end not in passed:
-            rest = slow_way(sample, end, b, passed + (a,))
-            if rest is not None:
-                return [a] + rest
-    return None
+def slow_way(sample, a, b):
+    return list(way_found(sample[0], tuple(sample[1]), a, b))
+
+
+@cache
+def way_found(many, roads, a, b):
+    """The way from a to b by trying each road."""
+    known = tolls((many, roads))
+
+    def rest_of(start, passed):
+        if start == b:
+            return (b,)
+        for one, other in known:
+            if one == start and other not in passed:
+                rest = rest_of(other, passed + (start,))
+                if rest is not None:
+                    return (start,) + rest
+        return None
+
+    return rest_of(a, ())
 
 
 def slow_price(sample, a, b):
@@ -202,3 +213,170 @@ def wrong_lists(many):
 
 def wrong_places(many):
     return (-1, -many, many, many + 1, HUGE, -HUGE, 10 ** 5000)
+
+
+# Webs on which, seen from some places, a place has several heavy kids.
+EVEN_ROW = (3, [(1, 0, 2, 2), (0, 2, 2, 2)])
+EVEN_STAR = (4, [(0, 1, 2, 2), (2, 0, 2, 2), (0, 3, 2, 2)])
+#  3   4
+#   \ /
+#    1 - 0 - 2
+#            |
+#            5
+EVEN_BRANCHED = (6, [(0, 1, 3, 2), (0, 2, 2, 2), (1, 3, 2, 2), (4, 1, 2, 3), (2, 5, 3, 2)])
+#   6   4
+#   |   |
+# 1-3-5-0-2
+EVEN_TWICE = (7, [(3, 1, 2, 3), (3, 5, 2, 2), (6, 3, 3, 2), (5, 0, 2, 2), (0, 2, 5, 12), (0, 4, 5, 3)])
+BIG_EVEN_STAR = (24, [(k, 23, 7, 5) for k in range(23)])
+# each place k from 1 on hangs at (k - 1) // 2; most kids are heavy, wherever one sees it from
+BIG_EVEN = (24, [(k, (k - 1) // 2, 3 if k < 15 else 2, 4) for k in range(1, 24)])
+
+EVEN = (EVEN_ROW, EVEN_STAR, EVEN_BRANCHED, EVEN_TWICE, BIG_EVEN_STAR, BIG_EVEN)
+
+
+def parts(pebbles, many):
+    """Each laying of just so many pebbles at so many places."""
+    if many == 1:
+        yield (pebbles,)
+        return
+    for first in range(pebbles + 1):
+        for rest in parts(pebbles - first, many - 1):
+            yield (first,) + rest
+
+
+def climbs(sample, r):
+    """Each place but r with the one ahead, the toll to it and the toll back, the farthest first."""
+    fronts = slow_ahead(sample, r)
+    known = tolls(sample)
+    places = sorted(range(sample[0]), key=lambda v: -len(slow_way(sample, v, r)))
+    return [(v, fronts[v], known[(v, fronts[v])], known[(fronts[v], v)]) for v in places if v != r]
+
+
+def most_finder(sample, r):
+    """A quick way to the most at r, for very many layings one after the other."""
+    roads = climbs(sample, r)
+
+    def find(laying):
+        counts = list(laying)
+        for place, front, up, back in roads:
+            counts[front] += counts[place] // up
+        return counts[r]
+
+    return find
+
+
+def met_finder(sample, wish, r):
+    """A quick way to whether a laying meets the wish, for very many layings."""
+    roads = climbs(sample, r)
+
+    def find(laying):
+        over = [has - wants for has, wants in zip(laying, wish)]
+        for place, front, up, back in roads:
+            over[front] += over[place] // up if over[place] >= 0 else over[place] * back
+        return over[r] >= 0
+
+    return find
+
+
+def slow_weights(sample, r):
+    """The greatest price of a way up to each place from one beneath it."""
+    return [max(slow_price(sample, u, v) for u in slow_beneath(sample, r, v)) for v in range(sample[0])]
+
+
+def slow_kids(sample, r, v):
+    fronts = slow_ahead(sample, r)
+    return [kid for kid in range(sample[0]) if fronts[kid] == v]
+
+
+def slow_needs(sample, wish, r):
+    needs = list(wish)
+    for place, front, up, back in climbs(sample, r):
+        needs[front] += needs[place] * back
+    return needs
+
+
+def slow_loads(sample, wish, r, v, top):
+    """For each standing up to the top the greatest load beneath v that has it, all of them tried."""
+    known = tolls(sample)
+    needs = slow_needs(sample, wish, r)
+    room = needs[v] + top
+    loads = {0: 0}
+    for kid in slow_kids(sample, r, v):
+        up, back = known[(kid, v)], known[(v, kid)]
+        given = room - needs[kid] * back
+        kid_top = up * (given + 1) - 1 if given >= 0 else given // back
+        taken = {}
+        for over, load in slow_loads(sample, wish, r, kid, kid_top).items():
+            rise = needs[kid] * back + (over // up if over >= 0 else over * back)
+            if rise <= room:
+                taken[rise] = max(load, taken.get(rise, 0))
+        both = {}
+        for one, load in loads.items():
+            for other, more in taken.items():
+                if one + other <= room:
+                    both[one + other] = max(load + more, both.get(one + other, 0))
+        loads = both
+    best = {}
+    for rise in range(room + 1):
+        best[rise - needs[v]] = max(load + rise - used for used, load in loads.items() if used <= rise)
+    return best
+
+
+def slow_worsts(sample, r, wanted):
+    """The gathered numbers of each worst laying, in the order of the places down from r, rising."""
+    known = tolls(sample)
+    weights = slow_weights(sample, r)
+    kids = [slow_kids(sample, r, v) for v in range(sample[0])]
+
+    @cache
+    def below(v, held):
+        """What the places beneath v may have gathered where v has so many, in the order down."""
+        if not kids[v]:
+            return [(held,)]
+        found = [((held,), held)]
+        for kid in kids[v]:
+            up = known[(kid, v)]
+            longer = []
+            for row, left in found:
+                for given in range(left + 1 if weights[kid] * up == weights[v] else 1):
+                    longer += [(row + more, left - given) for more in below(kid, up * (given + 1) - 1)]
+            found = longer
+        return [row for row, left in found if left == 0]
+
+    return sorted(below(r, wanted - 1))
+
+
+def laid(sample, r, row):
+    """The laying, pebbles at places without kids alone, with these gathered numbers down from r."""
+    places = slow_down(sample, r)
+    counts = [0] * sample[0]
+    for place, number in zip(places, row):
+        if not slow_kids(sample, r, place):
+            counts[place] = number
+    return tuple(counts)
+
+
+def slow_failing_many(sample, wish, r):
+    """The greatest number of pebbles that does not meet the wish, by the words of 7.3, seen from r."""
+    known = tolls(sample)
+    needs = slow_needs(sample, wish, r)
+    fronts = slow_ahead(sample, r)
+    kids = [slow_kids(sample, r, v) for v in range(sample[0])]
+
+    @cache
+    def idle(v):
+        if needs[v] > 0:
+            return sum(idle(kid) for kid in kids[v])
+        return greatest(v, known[(v, fronts[v])] - 1)
+
+    @cache
+    def greatest(v, y):
+        found = [needs[v] + y + sum(idle(kid) for kid in kids[v])]
+        for kid in kids[v]:
+            z = y + needs[v] - known[(v, kid)] * needs[kid]
+            others = sum(idle(other) for other in kids[v] if other != kid)
+            found.append(greatest(kid, known[(kid, v)] * (z + 1) - 1) + others)
+        return max(found)
+
+    return greatest(r, -1)

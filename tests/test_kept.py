@@ -2,15 +2,18 @@
 
 import unittest
 
-from samples import BRANCHED, NAMED, made, mixed_lists
+from samples import BRANCHED, EVEN, NAMED, made, mixed_lists
 
+from pebbletoll.always import always, fails, pile_need
 from pebbletoll.bringing import bring, gathered, most, shows_most
+from pebbletoll.enough import bound_by, enough, hardest, least_weights, weighed, weights_stand, worst
 from pebbletoll.errors import BadWeb
 from pebbletoll.layings import covers, laying_of, pile, put, total
 from pebbletoll.steps import layings, spent, walked
 from pebbletoll.webs import Web, neighbours, toll
 from pebbletoll.ways import ahead, beyond, down, price, way
 from pebbletoll.wishes import is_met, judged, meeting, standing, standings
+from pebbletoll.worsts import is_worst, worst_at, worst_many, worst_number
 
 
 def lists_told(web):
@@ -179,6 +182,68 @@ class Layings(unittest.TestCase):
                 some[0] = -5
             self.assertEqual(told, before)
             self.assertEqual(lists_told_of_layings(web, *handed), before)
+
+
+def others_told_of_enough(web, r, wish, weights, laying):
+    """What is told of what is always enough, but lists."""
+    return [
+        weights_stand(web, r, weights), weighed(weights, laying), bound_by(web, r, 3, weights), enough(web, r, 3),
+        worst(web, r, 3), hardest(web, 3), pile_need(web, wish, r), always(web, wish), fails(web, wish),
+        is_worst(web, r, 3, laying), worst_many(web, r, 3), worst_many(web, r, 10 ** 400 - 1),
+    ]
+
+
+def wanting():
+    """Webs with a place, a wish, weights that stand and a worst laying, all lists of their own."""
+    for sample in NAMED + EVEN:
+        web = made(sample)
+        for r in (0, web.many // 2, web.many - 1):
+            for greatest in (5, 10 ** 399):
+                wish = [number + (place == r) for place, number in enumerate(next(mixed_lists(web.many, greatest, 1)))]
+                yield web, r, wish, least_weights(web, r), list(worst(web, r, 3))
+
+
+class AlwaysEnough(unittest.TestCase):
+    def test_what_is_handed_in_stays_as_it_was(self):
+        for web, r, wish, weights, laying in wanting():
+            before = [list(wish), list(weights), list(laying)]
+            roads = web.roads
+            others_told_of_enough(web, r, wish, weights, laying)
+            if enough(web, r, 3) <= 10 ** 12:
+                worst_number(web, r, 3, laying)
+            self.assertEqual([wish, weights, laying], before)
+            self.assertEqual((web.roads, vars(web)), (roads, {"many": web.many, "roads": roads}))
+
+    def test_the_same_question_has_the_same_answer(self):
+        for web, r, wish, weights, laying in wanting():
+            first = others_told_of_enough(web, r, wish, weights, laying)
+            self.assertEqual(others_told_of_enough(web, r, wish, weights, laying), first)
+            tuples = (tuple(wish), tuple(weights), tuple(laying))
+            self.assertEqual(others_told_of_enough(web, r, *tuples), first)
+
+    def test_numbers_of_worst_layings(self):
+        for web, r, wish, weights, laying in wanting():
+            if enough(web, r, 3) <= 10 ** 12:
+                number = worst_many(web, r, 3) - 1
+                last = worst_at(web, r, 3, number)
+                self.assertEqual(worst_at(web, r, 3, number), last)
+                self.assertEqual(worst_number(web, r, 3, list(last)), number)
+                self.assertEqual(worst_number(web, r, 3, last), number)
+
+    def test_told_weights_are_the_askers_own(self):
+        for web, r, wish, weights, laying in wanting():
+            before = list(weights)
+            told = others_told_of_enough(web, r, wish, list(weights), laying)
+            other = least_weights(web, r)
+            self.assertIsNot(other, weights)
+            other.append(99)
+            other[0] = -5
+            self.assertEqual(weights, before)
+            self.assertEqual(least_weights(web, r), before)
+            handed = (list(wish), list(laying))
+            wish.clear()
+            laying.clear()
+            self.assertEqual(others_told_of_enough(web, r, handed[0], before, handed[1]), told)
 
 
 if __name__ == "__main__":
