@@ -380,3 +380,10 @@ def slow_failing_many(sample, wish, r):
         return max(found)
 
     return greatest(r, -1)
+
+
+# What is no number, as a word of a row.
+NO_NUMBERS = (
+    "00", "01", "007", "0" * 60, "+1", "-1", "-0", "1.", "1.0", "1e3", "1_000", "1,000", "0x1", "x", "a1", "1a", ".",
+    "/", "1" + "0" * 60, "9" * 61, "1" * 5000, "one", "~", "!", "'1'", "(1)", "1\t", "\t",
+)

@@ -2,14 +2,18 @@
 
 import unittest
 
-from samples import BRANCHED, EVEN, NAMED, made, mixed_lists
+from samples import BRANCHED, EVEN, EVEN_STAR, NAMED, ROW, made, mixed_lists
 
 from pebbletoll.always import always, fails, pile_need
 from pebbletoll.bringing import bring, gathered, most, shows_most
+from pebbletoll.desk import Desk, run
 from pebbletoll.enough import bound_by, enough, hardest, least_weights, weighed, weights_stand, worst
 from pebbletoll.errors import BadWeb
+from pebbletoll.fractions import less, minus, plus, sum_up, times
 from pebbletoll.layings import covers, laying_of, pile, put, total
+from pebbletoll.shares import even_shares, fairest, second_shares, shows_fairest, worth, yields
 from pebbletoll.steps import layings, spent, walked
+from pebbletoll.texts import number_text, numbers_text, read_numbers, read_steps, read_web, steps_text, web_text
 from pebbletoll.webs import Web, neighbours, toll
 from pebbletoll.ways import ahead, beyond, down, price, way
 from pebbletoll.wishes import is_met, judged, meeting, standing, standings
@@ -244,6 +248,127 @@ class AlwaysEnough(unittest.TestCase):
             wish.clear()
             laying.clear()
             self.assertEqual(others_told_of_enough(web, r, handed[0], before, handed[1]), told)
+
+
+def lists_told_of_shares(web):
+    """Every list that can be told of fair shares."""
+    answer = fairest(web)
+    return [even_shares(web), second_shares(web)] + list(answer[1:])
+
+
+def others_told_of_shares(web, shares, second):
+    return [
+        [worth(web, shares, place) for place in range(web.many)],
+        [yields(web, second, place) for place in range(web.many)],
+        shows_fairest(web, shares, second), fairest(web)[0], sum_up(shares), plus(shares[0], second[0]),
+        minus(shares[0], second[0]), times(shares[0], second[0]), less(shares[0], second[0]),
+    ]
+
+
+class Shares(unittest.TestCase):
+    def test_what_is_handed_in_stays_as_it_was(self):
+        for sample in NAMED + EVEN:
+            web = made(sample)
+            shares, second = even_shares(web), second_shares(web)
+            before = (list(shares), list(second))
+            first = others_told_of_shares(web, shares, second)
+            self.assertEqual((shares, second), before)
+            self.assertEqual(vars(web), {"many": sample[0], "roads": tuple(sample[1])})
+            self.assertEqual(others_told_of_shares(web, shares, second), first)
+            self.assertEqual(others_told_of_shares(web, tuple(shares), tuple(second)), first)
+
+    def test_no_two_lists_are_one(self):
+        for sample in NAMED + EVEN:
+            web = made(sample)
+            told = lists_told_of_shares(web) + lists_told_of_shares(web)
+            self.assertEqual(len(set(id(some) for some in told)), len(told))
+
+    def test_a_told_list_may_be_changed(self):
+        for sample in NAMED + EVEN:
+            web = made(sample)
+            told = lists_told_of_shares(web)
+            before = [list(some) for some in told]
+            for some in lists_told_of_shares(web):
+                some.append((9, 1))
+                some[0] = (-5, 1)
+            self.assertEqual(told, before)
+            self.assertEqual(lists_told_of_shares(web), before)
+
+
+class Texts(unittest.TestCase):
+    def test_what_is_handed_in_stays_as_it_was(self):
+        numbers, steps = [7, 0, 12], [(0, 1, 5), (2, 0, 10)]
+        for turn in range(2):
+            self.assertEqual(numbers_text(numbers), "7 0 12")
+            self.assertEqual(steps_text(steps), "0 1 5 / 2 0 10")
+            self.assertEqual((numbers, steps), ([7, 0, 12], [(0, 1, 5), (2, 0, 10)]))
+        web = made(ROW)
+        self.assertEqual(web_text(web), web_text(web))
+        self.assertEqual(vars(web), {"many": 4, "roads": tuple(ROW[1])})
+
+    def test_told_lists_are_the_askers_own(self):
+        for read, text in ((read_numbers, ""), (read_numbers, "7 0"), (read_steps, "."), (read_steps, "0 1 5")):
+            first, second = read(text), read(text)
+            before = list(first)
+            self.assertIsNot(first, second)
+            second.append(9)
+            self.assertEqual((first, read(text)), (before, before))
+
+    def test_read_webs_do_not_share(self):
+        first, second = read_web(web_text(made(ROW))), read_web(web_text(made(EVEN_STAR)))
+        self.assertEqual((first.many, first.roads), (4, tuple(ROW[1])))
+        self.assertEqual((second.many, second.roads), (4, tuple(EVEN_STAR[1])))
+
+    def test_what_is_told_may_be_written(self):
+        web = made(ROW)
+        for told in (enough(web, 0, 10 ** 400 - 1), pile_need(web, (10 ** 400 - 1,) * 4, 3)):
+            self.assertEqual(number_text(told), str(told))
+            self.assertEqual(numbers_text([told, told + 1]), f"{told} {told + 1}")
+
+
+class AtTheDesk(unittest.TestCase):
+    def test_the_web_is_kept_as_a_copy(self):
+        web = made(ROW)
+        desk = Desk(web)
+        rows = ("put 0 50", "want 3 1", "most 3", "meet", "always", "fails", "hardest 4", "many 0 3")
+        first = [desk.answer(row) for row in rows]
+        other = made(EVEN_STAR)
+        desk = Desk(web)
+        web.many, web.roads = other.many, other.roads
+        self.assertEqual([desk.answer(row) for row in rows], first)
+
+    def test_the_web_stays_as_it_was(self):
+        web = made(ROW)
+        desk = Desk(web)
+        for row in ("put 0 50", "want 3 1", "step 0 1 2", "meet", "fails", "back", "x", "put 9 9"):
+            desk.answer(row)
+        self.assertEqual(vars(web), {"many": 4, "roads": tuple(ROW[1])})
+
+    def test_what_is_told_is_not_changed_by_later_deeds(self):
+        desk = Desk(made(ROW))
+        desk.put(0, 5)
+        desk.want(1, 6)
+        laying, wish = desk.laying(), desk.wish()
+        desk.put(0, 5)
+        desk.want(1, 7)
+        desk.step(0, 1, 1)
+        self.assertEqual((laying, wish), ((5, 0, 0, 0), (0, 6, 0, 0)))
+        for turn in range(3):
+            desk.back()
+        self.assertEqual((desk.laying(), desk.wish()), (laying, wish))
+
+    def test_a_question_is_no_deed_and_has_the_same_answer_each_time(self):
+        desk = Desk(made(BRANCHED))
+        for row in ("put 3 1000", "put 4 77", "want 5 2", "want 2 1"):
+            desk.answer(row)
+        rows = ["laying", "wish", "meet", "always", "fails", "hardest 3"]
+        rows += [f"{word} {place}" for word in ("most", "bring", "stands") for place in range(7)]
+        rows += [f"{word} {place} 3" for word in ("enough", "worst", "many") for place in range(7)]
+        first = [desk.answer(row) for row in rows]
+        self.assertEqual([desk.answer(row) for row in rows], first)
+        self.assertEqual(desk.deeds(), 4)
+        text = web_text(made(BRANCHED)) + "\n\n" + "\n".join(rows)
+        self.assertEqual(run(text), run(text))
 
 
 if __name__ == "__main__":

@@ -68,6 +68,25 @@ def locals_of(name):
     return found
 
 
+def methods_of_classes():
+    found = []
+    for name in files():
+        for node in nodes_of(name):
+            if isinstance(node, ast.ClassDef):
+                found += [part.name for part in node.body if isinstance(part, ast.FunctionDef)]
+    return found
+
+
+def values_of_objects():
+    """The name of each value that is given to an object."""
+    found = []
+    for name in files():
+        for node in nodes_of(name):
+            if isinstance(node, ast.Attribute) and isinstance(node.ctx, ast.Store):
+                found.append(node.attr)
+    return found
+
+
 class Files(unittest.TestCase):
     def test_names(self):
         self.assertIn("__init__.py", files())
@@ -151,15 +170,21 @@ class Code(unittest.TestCase):
                 self.assertNotIn(bound, classes + imported(name), name)
 
     def test_methods(self):
-        own = DUNDERS[:]
-        for name in files():
-            for node in nodes_of(name):
-                if isinstance(node, ast.ClassDef):
-                    own += [part.name for part in node.body if isinstance(part, ast.FunctionDef)]
+        own = DUNDERS + methods_of_classes()
         for name in files():
             for node in nodes_of(name):
                 if isinstance(node, ast.Call) and isinstance(node.func, ast.Attribute):
                     self.assertIn(node.func.attr, METHODS + own, name)
+
+    def test_no_name_is_a_method_here_and_a_value_there(self):
+        self.assertEqual([name for name in values_of_objects() if name in methods_of_classes()], [])
+        self.assertIn("answer", methods_of_classes())
+        self.assertIn("roads", values_of_objects())
+
+    def test_own_methods_and_values_have_names_that_pythons_own_values_have_not(self):
+        taken = [name for kind in (str, int, list, tuple, dict, set, bytes) for name in dir(kind)]
+        for name in methods_of_classes() + values_of_objects():
+            self.assertTrue(name in DUNDERS or name not in taken, name)
 
 
 if __name__ == "__main__":
